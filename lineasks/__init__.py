@@ -1,0 +1,1 @@
+"""Lineasks: places asked of stations over one line."""

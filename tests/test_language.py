@@ -1,0 +1,75 @@
+"""Some rules of the language that the package keeps to, and its interface."""
+
+import ast
+import pathlib
+import re
+import unittest
+
+PACKAGE = pathlib.Path(__file__).resolve().parent.parent / "lineasks"
+
+BARRED = re.compile(
+    r"\b(type|typing|typing_extensions|enum|Enum|IntEnum|StrEnum|Flag|IntFlag|Generic|Protocol|ABC|ABCMeta"
+    r"|namedtuple|NamedTuple|TypedDict|TYPE_CHECKING|abstractmethod)\b|dataclass|overload|contextmanager")
+
+METHODS = {"stations.py": {"Station": ("number", "places", "change", "take")}}
+
+
+def sources():
+    """The name, the text and the tree of each file."""
+    for path in sorted(PACKAGE.glob("*.py")):
+        text = path.read_text(encoding="utf-8")
+        yield path.name, text, ast.parse(text)
+
+
+class Language(unittest.TestCase):
+
+    def test_only_plain_files(self):
+        names = sorted(path.name for path in PACKAGE.iterdir() if path.name != "__pycache__")
+        self.assertIn("__init__.py", names)
+        for name in names:
+            self.assertRegex(name, r"^[a-z0-9_]+\.py$")
+
+    def test_characters_lines_and_words(self):
+        for name, text, tree in sources():
+            with self.subTest(name):
+                self.assertRegex(text, r"\A[ -~\n]*\Z")
+                self.assertIsNone(BARRED.search(text))
+                self.assertLessEqual(len(text.splitlines()), 400)
+                self.assertLessEqual(max(map(len, text.splitlines())), 120)
+
+    def test_functions_are_short(self):
+        for name, text, tree in sources():
+            for node in ast.walk(tree):
+                if isinstance(node, ast.FunctionDef):
+                    with self.subTest(f"{name} {node.name}"):
+                        self.assertLessEqual(node.end_lineno - node.lineno + 1, 40)
+
+    def test_imports_are_of_the_package(self):
+        for name, text, tree in sources():
+            for node in ast.walk(tree):
+                self.assertNotIsInstance(node, ast.Import, name)
+                if isinstance(node, ast.ImportFrom):
+                    self.assertEqual(node.level, 0, name)
+                    self.assertRegex(node.module, r"^lineasks\.[a-z_]+$")
+
+    def test_no_method_is_an_attribute(self):
+        methods, attributes = set(), set()
+        for name, text, tree in sources():
+            for node in ast.walk(tree):
+                if isinstance(node, ast.ClassDef):
+                    methods |= {one.name for one in node.body if isinstance(one, ast.FunctionDef)}
+                if isinstance(node, ast.Attribute) and isinstance(node.ctx, ast.Store):
+                    attributes.add(node.attr)
+        self.assertEqual(methods & attributes, set())
+
+    def test_methods_stand_in_their_own_class(self):
+        trees = {name: tree for name, text, tree in sources()}
+        for name, classes in METHODS.items():
+            found = {node.name: node for node in trees[name].body if isinstance(node, ast.ClassDef)}
+            for made, wanted in classes.items():
+                told = {one.name for one in found[made].body if isinstance(one, ast.FunctionDef)}
+                self.assertLessEqual(set(wanted), told)
+
+
+if __name__ == "__main__":
+    unittest.main()

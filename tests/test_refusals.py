@@ -1,0 +1,56 @@
+"""0.3: which refusal comes, of things that are wrong in several ways."""
+
+import unittest
+
+from lineasks.asks import answer_frame, ask_frame, frame_answer, frame_ask
+from lineasks.errors import NoAsk, NoFrame, NoNumber, NoStation
+from lineasks.frames import framed
+from lineasks.stations import Station
+
+
+class WhichRefusal(unittest.TestCase):
+
+    def refuses(self, kind, action, *given):
+        with self.subTest(repr(given)):
+            with self.assertRaises(kind) as caught:
+                action(*given)
+            self.assertIs(type(caught.exception), kind)
+
+    def test_no_frame_of_what_is_no_frame_and_no_ask(self):
+        for thing in (None, [], (), ("read", 0, 99, 99, 99), ("done", 0, 99), (300, 1, 99, 99, 99), [[]]):
+            self.refuses(NoFrame, frame_ask, thing)
+            self.refuses(NoFrame, frame_answer, thing)
+            self.refuses(NoFrame, framed, (thing, 300))
+
+    def test_no_ask_of_wrong_stations_bytes_and_numbers(self):
+        for thing in (("read", 0, 99, 99, 99), ("write", 100, 16, 16, (300,)), ("write", None, None, None, [])):
+            self.refuses(NoAsk, ask_frame, thing)
+        for thing in (("values", 0, 99, (300,)), ("done", 100, 16), ("unread", None, None, None)):
+            self.refuses(NoAsk, answer_frame, thing)
+
+    def test_no_station_of_wrong_numbers_and_bytes(self):
+        for given in ((0, (300,), (5,)), (True, [], None), (1, (300,), (5, 5)), (1, (1,), (1,))):
+            self.refuses(NoStation, Station, *given)
+
+    def test_no_number_of_wrong_places_and_bytes(self):
+        made = Station(1, (1, 2), (0,))
+        for given in ((2, 3), (0, 256), (2, 256), (None, None), (True, True), ([], ())):
+            self.refuses(NoNumber, made.change, *given)
+        self.assertEqual(made.places(), (1, 2))
+
+
+class SameAgain(unittest.TestCase):
+
+    def test_the_same_is_told_again(self):
+        made = Station(1, (1, 2), (0,))
+        for action, thing in ((framed, [1, 2]), (ask_frame, ("read", 1, 0, 0, 2)),
+                              (answer_frame, ("values", 1, 0, (1, 2))), (frame_ask, (1, 1, 0, 0, 2, 252)),
+                              (frame_answer, (1, 130, 0, 125)), (made.take, (1, 1, 0, 0, 2, 252))):
+            with self.subTest(repr(thing)):
+                first = action(thing)
+                self.assertIsNotNone(first)
+                self.assertEqual(action(thing), first)
+
+
+if __name__ == "__main__":
+    unittest.main()

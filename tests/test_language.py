@@ -1,6 +1,7 @@
 """Some rules of the language that the package keeps to, and its interface."""
 
 import ast
+import builtins
 import pathlib
 import re
 import unittest
@@ -11,7 +12,18 @@ BARRED = re.compile(
     r"\b(type|typing|typing_extensions|enum|Enum|IntEnum|StrEnum|Flag|IntFlag|Generic|Protocol|ABC|ABCMeta"
     r"|namedtuple|NamedTuple|TypedDict|TYPE_CHECKING|abstractmethod)\b|dataclass|overload|contextmanager")
 
-METHODS = {"stations.py": {"Station": ("number", "places", "change", "take")}}
+METHODS = {
+    "stations.py": {"Station": ("number", "places", "change", "take")},
+    "lines.py": {"Line": ("send", "used")},
+    "askers.py": {"Asker": ("read", "write", "write_all")},
+}
+
+FUNCTIONS = {
+    "frames.py": ("is_frame", "framed"),
+    "asks.py": ("is_ask", "is_answer", "ask_frame", "frame_ask", "answer_frame", "frame_answer"),
+    "rounds.py": ("is_table", "can_bear", "starts", "latest", "share"),
+    "texts.py": ("frame_text", "read_frame"),
+}
 
 
 def sources():
@@ -69,6 +81,24 @@ class Language(unittest.TestCase):
             for made, wanted in classes.items():
                 told = {one.name for one in found[made].body if isinstance(one, ast.FunctionDef)}
                 self.assertLessEqual(set(wanted), told)
+
+    def test_functions_stand_in_their_file(self):
+        trees = {name: tree for name, text, tree in sources()}
+        for name, wanted in FUNCTIONS.items():
+            found = {node.name for node in trees[name].body if isinstance(node, ast.FunctionDef)}
+            self.assertLessEqual(set(wanted), found)
+
+    def test_no_variable_has_the_name_of_a_builtin_or_an_import(self):
+        for name, text, tree in sources():
+            taken = set(dir(builtins))
+            for node in ast.walk(tree):
+                if isinstance(node, ast.ImportFrom):
+                    taken |= {one.name for one in node.names}
+            for node in ast.walk(tree):
+                if isinstance(node, ast.Name) and isinstance(node.ctx, ast.Store):
+                    self.assertNotIn(node.id, taken, name)
+                if isinstance(node, ast.arg):
+                    self.assertNotIn(node.arg, taken, name)
 
 
 if __name__ == "__main__":

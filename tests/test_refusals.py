@@ -2,10 +2,14 @@
 
 import unittest
 
+from lineasks.askers import Asker
 from lineasks.asks import answer_frame, ask_frame, frame_answer, frame_ask
-from lineasks.errors import NoAsk, NoFrame, NoNumber, NoStation
+from lineasks.errors import Fixed, NoAnswer, NoAsk, NoFrame, NoNumber, NoPlace, NoStation, NoText
 from lineasks.frames import framed
+from lineasks.lines import Line
+from lineasks.rounds import latest, share, starts
 from lineasks.stations import Station
+from lineasks.texts import frame_text, read_frame
 
 
 class WhichRefusal(unittest.TestCase):
@@ -38,6 +42,38 @@ class WhichRefusal(unittest.TestCase):
             self.refuses(NoNumber, made.change, *given)
         self.assertEqual(made.places(), (1, 2))
 
+    def test_no_number_of_wrong_marks_tries_and_rounds(self):
+        made = Station(1, (1, 2), (0,))
+        self.refuses(NoNumber, Line, [made], ["well", 5, None])
+        self.refuses(NoNumber, Asker, Line([made], []), 0)
+        for given in (((), -1), ([], None), (((0, 0),), True)):
+            self.refuses(NoNumber, starts, *given)
+            self.refuses(NoNumber, latest, *given)
+
+    def test_no_frame_ahead_of_what_a_line_would_do(self):
+        line = Line([], ["lost"])
+        for thing in (None, (), (1, 2), ("read", 1, 0, 0, 1)):
+            self.refuses(NoFrame, line.send, thing)
+
+    def test_no_ask_ahead_of_no_place_fixed_and_no_answer(self):
+        asker = Asker(Line([Station(1, (1, 2), (0,))], []), 1)
+        for given in ((2, 9, 0), (1, 3, 9), (0, 3, 1), (100, 16, 9)):
+            self.refuses(NoAsk, asker.read, *given)
+        for given in ((2, 9, ()), (1, 0, (300,)), (0, 0, (1,)), (0, 3, (1,)), (1, 3, [1])):
+            self.refuses(NoAsk, asker.write, *given)
+
+    def test_no_place_ahead_of_fixed(self):
+        asker = Asker(Line([Station(1, (1, 2), (0,))], []), 1)
+        self.refuses(NoPlace, asker.write, 1, 0, (1, 2, 3))
+        self.refuses(Fixed, asker.write, 1, 0, (1, 2))
+        self.refuses(NoPlace, asker.read, 1, 0, 3)
+        self.refuses(NoAnswer, asker.write, 2, 0, (1, 2, 3))
+
+    def test_no_text_of_what_would_be_no_frame(self):
+        for thing in ("00 01", "00", None, (1, 2), [1, 255]):
+            self.refuses(NoText, read_frame, thing)
+            self.refuses(NoFrame, frame_text, thing)
+
 
 class SameAgain(unittest.TestCase):
 
@@ -45,7 +81,9 @@ class SameAgain(unittest.TestCase):
         made = Station(1, (1, 2), (0,))
         for action, thing in ((framed, [1, 2]), (ask_frame, ("read", 1, 0, 0, 2)),
                               (answer_frame, ("values", 1, 0, (1, 2))), (frame_ask, (1, 1, 0, 0, 2, 252)),
-                              (frame_answer, (1, 130, 0, 125)), (made.take, (1, 1, 0, 0, 2, 252))):
+                              (frame_answer, (1, 130, 0, 125)), (made.take, (1, 1, 0, 0, 2, 252)),
+                              (Line([made], []).send, (1, 1, 0, 0, 2, 252)), (share, ((3, 2), (4, 1))),
+                              (frame_text, (1, 255)), (read_frame, "01 ff")):
             with self.subTest(repr(thing)):
                 first = action(thing)
                 self.assertIsNotNone(first)

@@ -16,6 +16,8 @@ METHODS = {
     "stations.py": {"Station": ("number", "places", "change", "take")},
     "lines.py": {"Line": ("send", "used")},
     "askers.py": {"Asker": ("read", "write", "write_all")},
+    "streams.py": {"Ear": ("hear", "frames", "spots", "undecided", "many", "back", "forth", "twin")},
+    "sheets.py": {"Sheet": ("lay", "drop", "put", "worth", "row", "names", "back", "forth", "steps", "twin")},
 }
 
 FUNCTIONS = {
@@ -23,6 +25,10 @@ FUNCTIONS = {
     "asks.py": ("is_ask", "is_answer", "ask_frame", "frame_ask", "answer_frame", "frame_answer"),
     "rounds.py": ("is_table", "can_bear", "starts", "latest", "share"),
     "texts.py": ("frame_text", "read_frame"),
+    "streams.py": ("packed",),
+    "near.py": ("unlike", "near_frames", "meant"),
+    "plans.py": ("reads_for", "cheapest_reads", "read_bytes", "cheapest_writes"),
+    "sheets.py": ("sheet_text", "read_sheet"),
 }
 
 

@@ -4,11 +4,16 @@ import unittest
 
 from lineasks.askers import Asker
 from lineasks.asks import answer_frame, ask_frame, frame_answer, frame_ask
-from lineasks.errors import Fixed, NoAnswer, NoAsk, NoFrame, NoNumber, NoPlace, NoStation, NoText
+from lineasks.errors import (Fixed, Full, NoAnswer, NoAsk, NoBack, NoFrame, NoName, NoNumber, NoPlace, NoStation,
+                             NoText, Taken)
 from lineasks.frames import framed
 from lineasks.lines import Line
+from lineasks.near import meant, near_frames, unlike
+from lineasks.plans import cheapest_reads, cheapest_writes, read_bytes, reads_for
 from lineasks.rounds import latest, share, starts
+from lineasks.sheets import Sheet, read_sheet, sheet_text
 from lineasks.stations import Station
+from lineasks.streams import Ear, packed
 from lineasks.texts import frame_text, read_frame
 
 
@@ -74,6 +79,41 @@ class WhichRefusal(unittest.TestCase):
             self.refuses(NoText, read_frame, thing)
             self.refuses(NoFrame, frame_text, thing)
 
+    def test_no_frame_ahead_of_full(self):
+        ear = Ear()
+        ear.hear((0,) * 400)
+        for thing in ([256], (0,) * 400 + (None,), [True] * 401, None):
+            self.refuses(NoFrame, ear.hear, thing)
+        self.refuses(Full, ear.hear, [0])
+
+    def test_no_frame_of_parts_and_rows_that_are_wrong_in_several_ways(self):
+        self.refuses(NoFrame, packed, [(1, 2)] * 21)
+        self.refuses(NoFrame, unlike, (), [True] * 21)
+        self.refuses(NoFrame, near_frames, [300])
+        self.refuses(NoFrame, meant, (None,) * 30)
+
+    def test_no_number_of_plans_that_are_wrong_in_several_ways(self):
+        self.refuses(NoNumber, reads_for, [16, 16], 0)
+        self.refuses(NoNumber, cheapest_reads, (16, 3, None))
+        self.refuses(NoNumber, read_bytes, ((20, 0), None))
+        self.refuses(NoNumber, cheapest_writes, (300,), ())
+
+    def test_of_sheets(self):
+        sheet = Sheet(2)
+        sheet.lay("a", 0, 1)
+        self.refuses(NoNumber, sheet.lay, "A", 2, 1)
+        self.refuses(NoNumber, sheet.lay, "a", 0, 3)
+        self.refuses(NoName, sheet.lay, "A", 0, 1)
+        self.refuses(Taken, sheet.lay, "a", 0, 1)
+        # In put NoName comes first.
+        self.refuses(NoName, sheet.put, "b", 256)
+        self.refuses(NoNumber, sheet.put, "a", 256)
+        self.refuses(NoBack, sheet.forth)
+
+    def test_no_text_of_what_would_be_no_sheet(self):
+        for thing in ("0\na 0 2\n", "0\nA 0 1\n", "0\na 0 1\nb 0 1\n", "300\n", None, [0]):
+            self.refuses(NoText, read_sheet, thing)
+
 
 class SameAgain(unittest.TestCase):
 
@@ -83,7 +123,9 @@ class SameAgain(unittest.TestCase):
                               (answer_frame, ("values", 1, 0, (1, 2))), (frame_ask, (1, 1, 0, 0, 2, 252)),
                               (frame_answer, (1, 130, 0, 125)), (made.take, (1, 1, 0, 0, 2, 252)),
                               (Line([made], []).send, (1, 1, 0, 0, 2, 252)), (share, ((3, 2), (4, 1))),
-                              (frame_text, (1, 255)), (read_frame, "01 ff")):
+                              (frame_text, (1, 255)), (read_frame, "01 ff"), (packed, [(1, 255)]),
+                              (near_frames, [1, 2]), (meant, (5, 1, 0, 0, 1, 248)), (cheapest_reads, (0, 7, 8, 15)),
+                              (read_bytes, [(0, 3)]), (sheet_text, Sheet(3))):
             with self.subTest(repr(thing)):
                 first = action(thing)
                 self.assertIsNotNone(first)

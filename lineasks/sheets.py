@@ -38,9 +38,10 @@ class Sheet:
         if not is_whole(size, 1, MOST_PLACES):
             raise NoNumber("not a number of places")
         # A state is the word of the step that led to it, all bytes, and the names,
-        # rising; one stands behind each step. States behind now were taken back.
-        self.states = ((None, (0,) * size, ()),)
-        self.now = 0
+        # rising. The last one is that of now; one stands ahead of it for each step,
+        # and those that were taken back wait to be done again, the last first.
+        self.states = [(None, (0,) * size, ())]
+        self.taken_back = []
 
     def lay(self, name, at, many):
         """A name is for so many places from at on."""
@@ -77,35 +78,35 @@ class Sheet:
 
     def row(self):
         """All bytes."""
-        return self.states[self.now][1]
+        return self.states[-1][1]
 
     def names(self):
         """A rising list of tuples (name, at, many)."""
-        return list(self.states[self.now][2])
+        return list(self.states[-1][2])
 
     def back(self):
         """Takes the last step back; its word."""
-        if self.now == 0:
+        if len(self.states) == 1:
             raise NoBack("there is no step to take back")
-        self.now -= 1
-        return self.states[self.now + 1][0]
+        self.taken_back.append(self.states.pop())
+        return self.taken_back[-1][0]
 
     def forth(self):
         """Does the step again that was taken back last; its word."""
-        if self.now + 1 == len(self.states):
+        if not self.taken_back:
             raise NoBack("there is no step to do again")
-        self.now += 1
-        return self.states[self.now][0]
+        self.states.append(self.taken_back.pop())
+        return self.states[-1][0]
 
     def steps(self):
         """How many steps can be taken back, and how many done again."""
-        return (self.now, len(self.states) - 1 - self.now)
+        return (len(self.states) - 1, len(self.taken_back))
 
     def twin(self):
         """A sheet that is as this one, and goes by itself from now on."""
         other = Sheet(len(self.row()))
-        other.states = self.states
-        other.now = self.now
+        other.states = list(self.states)
+        other.taken_back = list(self.taken_back)
         return other
 
     def places_of(self, name):
@@ -117,9 +118,8 @@ class Sheet:
 
     def do_step(self, word, row, names):
         """The sheet has this row and these names from now on."""
-        done = self.states[:self.now + 1]
-        self.states = (*done, (word, row, tuple(sorted(names))))
-        self.now += 1
+        self.states.append((word, row, tuple(sorted(names))))
+        self.taken_back = []
 
 
 def sheet_text(sheet):
@@ -161,8 +161,8 @@ def read_sheet(text):
     sheet = Sheet(len(row))
     for line in lines[:-1]:
         lay_written(sheet, line)
-    sheet.states = ((None, row, tuple(sheet.names())),)
-    sheet.now = 0
+    # Laying the names was no step of the new sheet.
+    sheet.states = [(None, row, tuple(sheet.names()))]
     # Noughts ahead, names that do not rise and a last line without its line feed
     # come up to here, but no sheet is written so.
     if sheet_text(sheet) != text:

@@ -45,61 +45,61 @@ class Ear:
 
     def __init__(self):
         # A state is what came, what was found, and the first place that is not
-        # decided; one stands behind each hear. States behind now were taken back.
-        self.states = (((), (), 0),)
-        self.now = 0
+        # decided. The last one is that of now; one stands ahead of it for each
+        # hear, and those that were taken back wait to come again, the last first.
+        self.states = [((), (), 0)]
+        self.taken_back = []
 
     def hear(self, some):
         """Some bytes come; a list of the frames that are found by them."""
         if not isinstance(some, (list, tuple)) or not all([is_byte(one) for one in some]):
             raise NoFrame("not a list or a tuple of bytes")
-        came, found, place = self.states[self.now]
+        came, found, place = self.states[-1]
         if len(came) + len(some) > MOST_BYTES:
             raise Full("more than 400 bytes")
         came = (*came, *some)
         # More bytes never change what is decided already.
         more, place = find_frames(came, place)
-        done = self.states[:self.now + 1]
-        self.states = (*done, (came, found + more, place))
-        self.now += 1
+        self.states.append((came, found + more, place))
+        self.taken_back = []
         return [frame for spot, frame in more]
 
     def frames(self):
         """A list of all frames that are found."""
-        return [frame for spot, frame in self.states[self.now][1]]
+        return [frame for spot, frame in self.states[-1][1]]
 
     def spots(self):
         """A list of the places of the bytes ahead of the frames."""
-        return [spot for spot, frame in self.states[self.now][1]]
+        return [spot for spot, frame in self.states[-1][1]]
 
     def undecided(self):
         """How many bytes are not decided yet."""
-        came, found, place = self.states[self.now]
+        came, found, place = self.states[-1]
         return len(came) - place
 
     def many(self):
         """How many bytes came."""
-        return len(self.states[self.now][0])
+        return len(self.states[-1][0])
 
     def back(self):
         """What came by the last hear did not; how many bytes those were."""
-        if self.now == 0:
+        if len(self.states) == 1:
             raise NoBack("there is nothing to take back")
         ahead = self.many()
-        self.now -= 1
+        self.taken_back.append(self.states.pop())
         return ahead - self.many()
 
     def forth(self):
         """What was taken back last comes again; how many bytes those are."""
-        if self.now + 1 == len(self.states):
+        if not self.taken_back:
             raise NoBack("there is nothing to let come again")
         ahead = self.many()
-        self.now += 1
+        self.states.append(self.taken_back.pop())
         return self.many() - ahead
 
     def twin(self):
         """An ear that is as this one, and goes by itself from now on."""
         other = Ear()
-        other.states = self.states
-        other.now = self.now
+        other.states = list(self.states)
+        other.taken_back = list(self.taken_back)
         return other
